@@ -1,0 +1,1 @@
+"""Parcelmend: a house of files, one tree for one stand."""
