@@ -3,7 +3,7 @@
 from parcelmend.errors import NoShelf
 from parcelmend.parcels import Parcel, Shelf
 from parcelmend.words import MOST_LINES, bound_read, bound_shown, is_bound, is_line, is_name, is_path
-from parcelmend.words import make_read, make_shown, number_read
+from parcelmend.words import make_read, make_shown, number_read, rows_of
 
 MOST_NAMES = 8
 MOST_MAKES = 4
@@ -37,9 +37,7 @@ def claim_row(sort, claim):
 
 def read_shelf(text):
     parcels = []
-    # Split would make one row of the text without signs, which has none.
-    rows = text.split("\n") if text != "" else []
-    for number, row in enumerate(rows):
+    for number, row in enumerate(rows_of(text)):
         if not take_row(parcels, row):
             raise NoShelf(number)
     return Shelf(parcels)

@@ -11,6 +11,11 @@ MOST_FIGURES = 10
 PERCENT_CODE = 37
 
 
+def rows_of(text):
+    # Split would make one row of the text without signs, which has none.
+    return text.split("\n") if text != "" else []
+
+
 def is_name(text):
     return 0 < len(text) <= MOST_LETTERS and all(["a" <= sign <= "z" for sign in text])
 

@@ -1,4 +1,4 @@
-"""What several test files need: parcels made shortly, and parcels and shelves told as plain values."""
+"""What several test files need: parcels made shortly, and parcels, shelves and stands told as plain values."""
 
 from parcelmend.parcels import Parcel
 
@@ -17,3 +17,7 @@ def contents_of(shelf):
         for make in shelf.makes_of(name):
             told.append(fields_of(shelf.parcel(name, make)))
     return told
+
+
+def parts_of(stand):
+    return (stand.chosen, stand.choices, stand.own)
