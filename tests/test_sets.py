@@ -1,11 +1,10 @@
 """Points 11 and 12, with 2 and 6: the faults of a set, and whether it is sound."""
 
 import copy
-import itertools
 import unittest
 
-from helpers import contents_of, parcel_of
-from parcelmend.parcels import Shelf, does_meet
+from helpers import contents_of, every_set, faults_by_the_words, parcel_of
+from parcelmend.parcels import Shelf
 from parcelmend.sets import faults_of, is_sound
 
 ONE = (1,)
@@ -238,28 +237,11 @@ class SortedTest(SetsTest):
         ]
         shelf = Shelf(parcels)
         sound = 0
-        for makes in itertools.product(*[[None] + shelf.makes_of(name) for name in shelf.names()]):
-            chosen = {name: make for name, make in zip(shelf.names(), makes) if make is not None}
+        for chosen in every_set(shelf):
             expected = faults_by_the_words([shelf.parcel(name, chosen[name]) for name in chosen])
             self.check_chosen(parcels, chosen, expected)
             sound = sound + (len(expected) == 0)
         self.assertGreater(sound, 3)
-
-
-def faults_by_the_words(parcels):
-    told = set()
-    for parcel in parcels:
-        for number, claim in enumerate(parcel.needs):
-            if not any(does_meet(claim, other) for other in parcels):
-                told.add(("need", parcel.name, number))
-        for other in parcels:
-            for number, claim in enumerate(parcel.shuts):
-                if other is not parcel and does_meet(claim, other):
-                    told.add(("shut", parcel.name, number, other.name))
-            for path in dict(parcel.files):
-                if parcel.name < other.name and path in dict(other.files):
-                    told.add(("clash", parcel.name, other.name, path))
-    return sorted(told)
 
 
 if __name__ == "__main__":
