@@ -6,7 +6,7 @@ decided, unless the shelf has no parcel of it.
 
 from parcelmend.parcels import does_meet
 from parcelmend.sets import paths_of
-from parcelmend.words import is_within
+from parcelmend.words import is_place, is_within
 
 
 class Paper:
@@ -74,11 +74,6 @@ def is_broken(shelf, wishes, decided, reason):
     if reason[0] == "clash":
         return len(reason) == 4 and is_clash(shelf, decided, reason[1], reason[2], reason[3])
     return False
-
-
-def is_place(number, things):
-    # True and False are ints for Python, but no whole numbers here.
-    return isinstance(number, int) and not isinstance(number, bool) and 0 <= number < len(things)
 
 
 def parcel_decided(shelf, decided, name):

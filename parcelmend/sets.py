@@ -7,11 +7,6 @@ def parcels_of(shelf, chosen):
     return [shelf.parcel(name, chosen[name]) for name in sorted(chosen)]
 
 
-def names_unlike(chosen, other):
-    # A name that stands in one of both alone is unlike, too: None is no make.
-    return [name for name in sorted(set(chosen) | set(other)) if chosen.get(name) != other.get(name)]
-
-
 def faults_of(shelf, chosen):
     parcels = parcels_of(shelf, chosen)
     faults = []

@@ -21,70 +21,58 @@ def change_rows(path, change):
 
 
 def read_stand(text):
-    chosen = {}
-    choices = {}
-    changes = []
     for number, row in enumerate(rows_of(text)):
-        if not take_row(chosen, choices, changes, row):
-            raise NoStand(f"row {number} can not stand there")
-    stand = Stand(chosen, choices, own_of(changes))
-    # Rows that come twice or out of order are each taken by themselves; only the stand as a whole shows them.
+        if not is_good(row):
+            raise NoStand(f"row {number} is not as a stand's rows are")
+    stand = stand_noted(text)
+    if not all([len(lines) <= MOST_LINES for lines in lines_within(stand)]):
+        raise NoStand("there are too many lines of one change")
+    # Rows that come twice or out of order are each good by themselves; only the stand as a whole shows them.
     if stand_shown(stand) != text:
         raise NoStand("rows are told twice or not in their order")
     return stand
 
 
-def own_of(changes):
-    own = {}
-    for path, base, mine in changes:
-        own[path] = (base, mine)
-    return own
-
-
-# Each take_ function tells whether the row is good by itself, and only then adds what it says to the parts of the
-# stand. The last of the changes is the one that still grows.
-
-
-def take_row(chosen, choices, changes, row):
+def is_good(row):
     # A line may hold blanks, so its row is not parted into words.
-    if row.startswith("<"):
-        return len(changes) > 0 and take_line(changes[-1][1], row[1:])
-    if row.startswith(">"):
-        return len(changes) > 0 and take_line(changes[-1][2], row[1:])
+    if row.startswith("<") or row.startswith(">"):
+        return is_line(row[1:])
     words = row.split(" ")
-    if words[0] == "in":
-        return take_parcel(chosen, words)
-    if words[0] == "choose":
-        return take_choice(choices, words)
-    return words[0] == "own" and take_change(changes, words)
-
-
-def take_parcel(chosen, words):
+    if words[0] == "own":
+        return len(words) == 2 and is_path(words[1])
     if len(words) != 3 or not is_name(words[1]):
         return False
-    make = make_read(words[2])
-    if make is None:
-        return False
-    chosen[words[1]] = make
-    return True
+    if words[0] == "in":
+        return make_read(words[2]) is not None
+    return words[0] == "choose" and is_name(words[2])
 
 
-def take_choice(choices, words):
-    if len(words) != 3 or not is_name(words[1]) or not is_name(words[2]):
-        return False
-    choices[words[1]] = words[2]
-    return True
+def lines_within(stand):
+    return [change[0] for change in stand.own.values()] + [change[1] for change in stand.own.values()]
 
 
-def take_change(changes, words):
-    if len(words) != 2 or not is_path(words[1]):
-        return False
-    changes.append((words[1], [], []))
-    return True
+def stand_noted(text):
+    # For a text that was written by stand_shown: no bound is asked for, as what a stand holds may lie beyond them.
+    chosen = {}
+    choices = {}
+    own = {}
+    # Lines ahead of any change come to none, and so are missed when the stand is shown.
+    change = ([], [])
+    for row in rows_of(text):
+        words = row.split(" ")
+        if row.startswith("<"):
+            change[0].append(row[1:])
+        elif row.startswith(">"):
+            change[1].append(row[1:])
+        elif words[0] == "in":
+            chosen[words[1]] = make_noted(words[2])
+        elif words[0] == "choose":
+            choices[words[1]] = words[2]
+        else:
+            change = ([], [])
+            own[words[1]] = change
+    return Stand(chosen, choices, own)
 
 
-def take_line(lines, line):
-    if len(lines) == MOST_LINES or not is_line(line):
-        return False
-    lines.append(line)
-    return True
+def make_noted(text):
+    return tuple([int(part) for part in text.split(".")])

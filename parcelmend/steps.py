@@ -1,17 +1,18 @@
 """The steps from one set to another, by groups of names that change together."""
 
-from parcelmend.sets import is_sound, names_unlike
+from parcelmend.sets import is_sound
+from parcelmend.words import keys_unlike
 
 
 def groups_to(shelf, now, goal):
     groups = []
     reached = now
-    left = names_unlike(reached, goal)
+    left = keys_unlike(reached, goal)
     while len(left) > 0:
         group = first_group(shelf, reached, goal, left)
         groups.append(group)
         reached = set_behind(reached, goal, group)
-        left = names_unlike(reached, goal)
+        left = keys_unlike(reached, goal)
     return groups
 
 

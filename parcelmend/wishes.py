@@ -2,7 +2,8 @@
 
 from parcelmend.errors import TooWide
 from parcelmend.papers import Leaf, Split, cases_of, is_broken, is_done_by, with_case
-from parcelmend.sets import faults_of, is_sound, names_unlike
+from parcelmend.sets import faults_of, is_sound
+from parcelmend.words import keys_unlike
 
 GREATEST_WIDTH = 400
 
@@ -39,7 +40,7 @@ def best_set(shelf, now, wishes):
     doing = [chosen for chosen in sets_of(shelf) if are_met(chosen, wishes) and is_sound(shelf, chosen)]
     if len(doing) == 0:
         return Unmet(paper_for(shelf, wishes, {}))
-    return Best(max(doing, key=lambda chosen: (-len(names_unlike(now, chosen)), makes_listed(shelf, chosen))))
+    return Best(max(doing, key=lambda chosen: (-len(keys_unlike(now, chosen)), makes_listed(shelf, chosen))))
 
 
 def sets_of(shelf):

@@ -1,4 +1,4 @@
-"""Names, paths, lines, numbers and makes, as they are written."""
+"""Names, paths, lines, numbers and makes, as they are written, and what else several modules ask of plain values."""
 
 MOST_LETTERS = 8
 MOST_PATH_WORDS = 4
@@ -80,3 +80,13 @@ def bound_shown(bound):
 
 def is_within(make, least, below):
     return make >= least and (below is None or make < below)
+
+
+def is_place(number, things):
+    # True and False are ints for Python, but no whole numbers here.
+    return isinstance(number, int) and not isinstance(number, bool) and 0 <= number < len(things)
+
+
+def keys_unlike(first, second):
+    # No value is None, so a key that stands in one of both alone is unlike, too.
+    return [key for key in sorted(set(first) | set(second)) if first.get(key) != second.get(key)]

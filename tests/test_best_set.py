@@ -4,8 +4,7 @@ import copy
 import unittest
 
 from helpers import (
-    Chance, are_met_by_the_words, contents_of, every_set, holds_by_the_words, is_sound_by_the_words, paper_told,
-    parcel_of,
+    Chance, best_by_the_words, contents_of, every_set, holds_by_the_words, paper_told, parcel_of,
 )
 from parcelmend.errors import MendError, TooWide
 from parcelmend.papers import Leaf, Paper
@@ -15,22 +14,6 @@ from parcelmend.wishes import Best, Outcome, Unmet, best_set
 ONE = (1,)
 TWO = (2,)
 ANY = ((), None)
-
-
-def unlike(now, chosen):
-    return len([name for name in set(now) | set(chosen) if now.get(name) != chosen.get(name)])
-
-
-def best_by_the_words(shelf, now, wishes):
-    doing = [
-        chosen for chosen in every_set(shelf)
-        if is_sound_by_the_words(shelf, chosen) and are_met_by_the_words(chosen, wishes)
-    ]
-    if not doing:
-        return None
-    fewest = min(unlike(now, chosen) for chosen in doing)
-    nearest = [chosen for chosen in doing if unlike(now, chosen) == fewest]
-    return max(nearest, key=lambda chosen: [chosen.get(name, ()) for name in shelf.names()])
 
 
 class OutcomeTest(unittest.TestCase):

@@ -3,49 +3,13 @@
 import itertools
 import unittest
 
+from helpers import block_by_the_words, stands_within, together_by_the_words
 from parcelmend.merges import block_of, put_together
 
 
 def lists_of(signs, most):
     """All lists of these lines up to that length."""
     return [list(lines) for many in range(most + 1) for lines in itertools.product(signs, repeat=many)]
-
-
-def block_by_the_words(base, other):
-    shorter = min(len(base), len(other))
-    start = max(many for many in range(shorter + 1) if base[:many] == other[:many])
-    left_base = base[start:]
-    left_other = other[start:]
-    left = min(len(left_base), len(left_other))
-    behind = max(
-        many for many in range(left + 1)
-        if left_base[len(left_base) - many:] == left_other[len(left_other) - many:]
-    )
-    return (start, len(base) - behind, left_other[:len(left_other) - behind])
-
-
-def together_by_the_words(base, own, new):
-    if own == base:
-        return (new, None)
-    if new == base or own == new:
-        return (own, None)
-    blocks = [block_by_the_words(base, own), block_by_the_words(base, new)]
-    (start, stop, _), (other_start, other_stop, _) = blocks
-    if len({start, stop, other_start, other_stop}) == 1 or (stop > other_start and other_stop > start):
-        return (new, own)
-    lines = []
-    for place in range(len(base) + 1):
-        # What takes no line away comes ahead of what takes away the line that stands there.
-        for block in sorted(blocks, key=lambda block: block[1]):
-            if block[0] == place:
-                lines.extend(block[2])
-        if place < len(base) and not any(block[0] <= place < block[1] for block in blocks):
-            lines.append(base[place])
-    return (lines, None)
-
-
-def stands_within(part, lines):
-    return any(lines[place:place + len(part)] == part for place in range(len(lines) - len(part) + 1))
 
 
 class BlockTest(unittest.TestCase):

@@ -8,7 +8,9 @@ from parcelmend.parceltexts import read_shelf
 PARCEL = "parcel a 1 0"
 # One row of each sort that is good behind PARCEL, with every word of it as it must be.
 GOOD_ROWS = ("parcel b 1.2 3", "file f/g", "need b 1 2.0", "need b - -", "shut b 1.2.3 -", "shut b - 4", "offer c")
-STRANGE_SIGNS = ("A", "Z", "0", "9", "_", "-", ".", "`", "{", "=", "|", "\t", "\r", "\u00e9", "\u0430", "\u00df", "\x00")
+STRANGE_SIGNS = (
+    "A", "Z", "0", "9", "_", "-", ".", "`", "{", "=", "|", "\t", "\r", "\u00e9", "\u0430", "\u00df", "\x00",
+)
 NO_NUMBERS = (
     "", "00", "01", "007", "0000000001", "1000000001", "1000000010", "9999999999", "10000000000", "1" * 20,
     "9" * 5000, "-", "-1", "-0", "+1", "1_0", "1e3", "0x1", "a", "1a", "1,0", "\u0661", "\u00b2", "\uff11", "1\t",

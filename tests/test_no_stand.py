@@ -3,14 +3,12 @@
 import itertools
 import unittest
 
+from helpers import NO_NAMES, NO_PATHS
 from parcelmend.errors import NoStand
 from parcelmend.standtexts import read_stand
 
 # One row of each sort with words, good by itself.
 GOOD_ROWS = ("in a 1.2", "choose b c", "own f/g")
-STRANGE_SIGNS = (
-    "A", "Z", "0", "9", "_", "-", ".", "`", "{", "=", "|", "<", ">", "\t", "\r", "\u00e9", "\u0430", "\u00df", "\x00",
-)
 NO_NUMBERS = (
     "", "00", "01", "007", "0000000001", "1000000001", "9999999999", "10000000000", "1" * 20, "9" * 5000, "-", "-1",
     "-0", "+1", "1_0", "1e3", "0x1", "a", "1a", "1,0", "\u0661", "\u00b2", "\uff11", "1\t", "\r1", "1\u00a0",
@@ -18,14 +16,6 @@ NO_NUMBERS = (
 NO_MAKES = NO_NUMBERS + (
     ".", "1.", ".1", "1..2", "1.2.", "1.2.3.", "1.2.3.4", "0.0.0.0", "1.02", "00.1", "1.1000000001", "1.2.1000000001",
     "1.2.a", "1.-", "()", "(1,)", "None", "1/2", "1.2\t",
-)
-NO_NAMES = (
-    ("", "abcdefghi", "a" * 100, "a/b", "a b") + STRANGE_SIGNS + tuple("ab" + sign for sign in STRANGE_SIGNS)
-    + tuple(sign + "ab" for sign in STRANGE_SIGNS) + tuple("a" + sign + "b" for sign in STRANGE_SIGNS)
-)
-NO_PATHS = tuple(name for name in NO_NAMES if name != "a/b") + (
-    "/", "/a", "a/", "a//b", "//", "a/b/c/d/e", "a/b/c/d/", "/a/b/c/d", "abcdefghi/a", "a/abcdefghi", "a/B", "a/b.own",
-    "a.own", "=a", "a\\b", "a/b/c/d e",
 )
 
 

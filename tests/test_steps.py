@@ -1,38 +1,17 @@
 """Point 25, with 2, 11 and 12, and what point 3 says of steps: the groups from a set to a sound one."""
 
 import copy
-import itertools
 import unittest
 
-from helpers import Chance, contents_of, every_set, is_sound_by_the_words, parcel_of
+from helpers import (
+    Chance, contents_of, every_set, groups_by_the_words, is_sound_by_the_words, names_to_change, parcel_of,
+)
 from parcelmend.parcels import Shelf
 from parcelmend.steps import groups_to, set_behind
 
 ONE = (1,)
 TWO = (2,)
 ANY = ((), None)
-
-
-def names_to_change(now, goal):
-    return sorted(name for name in set(now) | set(goal) if now.get(name) != goal.get(name))
-
-
-def behind_by_the_words(now, goal, group):
-    behind = {name: make for name, make in now.items() if name not in group}
-    behind.update({name: make for name, make in goal.items() if name in group})
-    return behind
-
-
-def groups_by_the_words(shelf, now, goal):
-    groups = []
-    while names_to_change(now, goal):
-        left = names_to_change(now, goal)
-        every = [list(group) for many in range(1, len(left) + 1) for group in itertools.combinations(left, many)]
-        sound = [group for group in every if is_sound_by_the_words(shelf, behind_by_the_words(now, goal, group))]
-        group = min(sound, key=lambda group: (len(group), group))
-        groups.append(group)
-        now = behind_by_the_words(now, goal, group)
-    return groups
 
 
 class StepsTest(unittest.TestCase):
