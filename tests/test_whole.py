@@ -154,9 +154,27 @@ class WholeTest(unittest.TestCase):
         for many in range(len(full.disk.written) + 1):
             other = road.copied()
             self.assertEqual(self.do(other, deed, many), many < len(full.disk.written))
+            self.check_falls_in_coming_up(other, chance)
             self.come_up(other, chance)
             self.check_up(other)
         return len(full.disk.written)
+
+    def check_falls_in_coming_up(self, road, chance):
+        """At every write again; from there on it falls where it may."""
+        many = 0
+        fell = not House(road.shelf, road.disk).up()
+        while fell:
+            other = road.copied()
+            other.disk.allow(many)
+            try:
+                self.assertIs(House(other.shelf, other.disk).come_up(), True)
+                fell = False
+            except Fallen:
+                self.assertEqual(len(other.disk.written), many)
+                self.falls = self.falls + 1
+            self.come_up(other, chance)
+            self.check_up(other)
+            many = many + 1
 
     def check_steps(self, road):
         """The set is sound ahead of the first step, between two and behind the last; coming up leads to the goal."""
@@ -208,11 +226,11 @@ class WholeTest(unittest.TestCase):
     def test_many_roads(self):
         self.unmet = 0
         self.falls = 0
-        for number in range(60):
+        for number in range(100):
             with self.subTest(number=number):
                 self.walk(number, 12)
         self.assertGreater(self.unmet, 50)
-        self.assertGreater(self.falls, 500)
+        self.assertGreater(self.falls, 3000)
 
     def test_one_long_road(self):
         self.unmet = 0
